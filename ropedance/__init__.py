@@ -1,0 +1,1 @@
+"""Ropedance: tangles of two ropes, told by one fraction."""
