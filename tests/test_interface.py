@@ -19,6 +19,16 @@ FUNCTIONS = (
     ("dances", "mirrored", ["dance"]),
     ("dances", "partner", ["dance"]),
     ("dances", "pieces", ["dance", "way"]),
+    ("moves", "is_move", ["move"]),
+    ("moves", "made", ["dance", "move"]),
+    ("moves", "leads", ["one", "moves", "other"]),
+    ("standard", "standard", ["fraction"]),
+    ("standard", "to_standard", ["dance"]),
+    ("diagrams", "diagram", ["dance"]),
+    ("diagrams", "is_colouring", ["dance", "colours"]),
+    ("diagrams", "colouring", ["dance", "first", "second"]),
+    ("diagrams", "reading", ["dance", "colours"]),
+    ("diagrams", "colour_count", ["dance", "way", "n"]),
 )
 ERRORS = ("NoFraction", "BadMove", "BadText", "NoDance")
 # What the rules for the code let a file import from outside the package.
@@ -58,6 +68,21 @@ class InterfaceTest(unittest.TestCase):
         self.assertEqual(mirrored(dance="TR"), "UR")
         self.assertEqual(partner(dance="T"), "se")
         self.assertEqual(pieces(dance="T", way="down"), 1)
+
+    def test_arguments_of_moves_and_diagrams_may_be_passed_by_their_names(self):
+        from ropedance.diagrams import colour_count, colouring, diagram, is_colouring, reading
+        from ropedance.moves import is_move, leads, made
+        from ropedance.standard import standard, to_standard
+        self.assertIs(is_move(move=(3, "", "RR")), True)
+        self.assertEqual(made(dance="TU", move=(0, "TU", "")), "")
+        self.assertIs(leads(one="TU", moves=[(0, "TU", "")], other=""), True)
+        self.assertEqual(standard(fraction=(-1, 2)), "TTR")
+        self.assertEqual(to_standard(dance="TTR"), [])
+        self.assertEqual(diagram(dance="R"), (2, [], (1, 0, 1, 0)))
+        self.assertIs(is_colouring(dance="T", colours=[0, 1, -1]), True)
+        self.assertEqual(colouring(dance="T", first=0, second=1), [0, 1, -1])
+        self.assertEqual(reading(dance="T", colours=[0, 1, -1]), (1, 1))
+        self.assertEqual(colour_count(dance="TTT", way="across", n=3), 9)
 
 
 class ErrorsTest(unittest.TestCase):
