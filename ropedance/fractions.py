@@ -44,3 +44,28 @@ def turned(p, q):
     if p < 0:
         return q, -p
     return -q, p
+
+
+def quotients(fraction):
+    """Return the quotients of the fraction without its sign, by repeated division.
+
+    The list of a, b, c and so on stands for a + 1 / (b + 1 / (c + ..)); the
+    last one is above 1 if there are several. Infinite stands as 0 + 1 / 0.
+    """
+    p, q = fraction
+    if q == 0:
+        return [0, 0]
+    parts = []
+    rest = abs(p)
+    while q > 0:
+        parts.append(rest // q)
+        rest, q = q, rest % q
+    return parts
+
+
+def from_quotients(parts):
+    """Return the fraction, which is not negative, that has these quotients."""
+    p, q = 1, 0
+    for part in parts[::-1]:
+        p, q = part * p + q, p
+    return p, q

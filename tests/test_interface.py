@@ -29,6 +29,17 @@ FUNCTIONS = (
     ("diagrams", "colouring", ["dance", "first", "second"]),
     ("diagrams", "reading", ["dance", "colours"]),
     ("diagrams", "colour_count", ["dance", "way", "n"]),
+    ("judge", "judge", ["one", "other"]),
+    ("judge", "accepts", ["one", "other", "paper"]),
+    ("least", "steps", ["fraction"]),
+    ("least", "undo", ["dance"]),
+    ("order", "place", ["fraction"]),
+    ("order", "fraction_at", ["place"]),
+    ("order", "fractions_with", ["step_count"]),
+    ("texts", "write_dance", ["dance"]),
+    ("texts", "read_dance", ["text"]),
+    ("texts", "write_moves", ["moves"]),
+    ("texts", "read_moves", ["lines"]),
 )
 ERRORS = ("NoFraction", "BadMove", "BadText", "NoDance")
 # What the rules for the code let a file import from outside the package.
@@ -83,6 +94,41 @@ class InterfaceTest(unittest.TestCase):
         self.assertEqual(colouring(dance="T", first=0, second=1), [0, 1, -1])
         self.assertEqual(reading(dance="T", colours=[0, 1, -1]), (1, 1))
         self.assertEqual(colour_count(dance="TTT", way="across", n=3), 9)
+
+    def test_arguments_of_papers_least_dances_order_and_texts_may_be_passed_by_their_names(self):
+        from ropedance.judge import accepts, judge
+        from ropedance.least import LeastDances, steps, undo
+        from ropedance.order import fraction_at, fractions_with, place
+        from ropedance.texts import read_dance, read_moves, write_dance, write_moves
+        self.assertEqual(judge(one="T", other="U")[0], "apart")
+        self.assertIs(accepts(one="TU", other="", paper=("alike", [(0, "TU", "")])), True)
+        self.assertEqual(steps(fraction=(1, 2)), 3)
+        self.assertEqual(undo(dance="TTR"), "RUU")
+        least = LeastDances(fraction=(2, 3))
+        self.assertEqual(least.dance(rank=1), "TTTRT")
+        self.assertEqual(least.rank_of(dance="TTTRT"), 1)
+        self.assertEqual(list(least.dances(start=1)), ["TTTRT"])
+        self.assertEqual(place(fraction=(1, 1)), 2)
+        self.assertEqual(fraction_at(place=2), (1, 1))
+        self.assertEqual(fractions_with(step_count=0), [(0, 1)])
+        self.assertEqual(write_dance(dance="TT"), "T2")
+        self.assertEqual(read_dance(text="T2"), "TT")
+        self.assertEqual(write_moves(moves=[(0, "", "RR")]), ["0 - RR"])
+        self.assertEqual(read_moves(lines=["0 - RR"]), [(0, "", "RR")])
+
+    def test_the_class_of_least_dances_is_defined_in_its_file_with_its_methods(self):
+        from ropedance import least
+        of_class = least.LeastDances
+        self.assertTrue(inspect.isclass(of_class))
+        self.assertEqual((of_class.__module__, of_class.__name__), ("ropedance.least", "LeastDances"))
+        self.assertEqual(list(inspect.signature(of_class).parameters), ["fraction"])
+        self.assertIsInstance(vars(of_class)["dance_count"], property)
+        for name, arguments in (("dance", ["self", "rank"]), ("rank_of", ["self", "dance"]),
+                                ("dances", ["self", "start"])):
+            method = vars(of_class)[name]
+            self.assertTrue(inspect.isfunction(method))
+            self.assertEqual(list(inspect.signature(method).parameters), arguments)
+        self.assertTrue(inspect.isgeneratorfunction(vars(of_class)["dances"]))
 
 
 class ErrorsTest(unittest.TestCase):

@@ -7,7 +7,7 @@ from math import floor, gcd
 from ropedance.dances import number
 from ropedance.moves import is_move, leads
 from ropedance.standard import standard, to_standard
-from ropes import dances_up_to
+from ropes import after_moves, dances_up_to
 
 INFINITE = (1, 0)
 SMALL_FRACTIONS = [INFINITE] + [(p, q) for q in range(1, 10) for p in range(-30, 31) if gcd(p, q) == 1]
@@ -19,19 +19,6 @@ def standard_by_the_words(x):
         return "T" * int(x) if x >= 0 else "U" * int(-x)
     b = floor(x) + 1
     return standard_by_the_words(1 / (b - x)) + "R" + standard_by_the_words(Fraction(b))
-
-
-def after_moves(dance, moves):
-    """The dance that the moves make one after another, by point 7; None if one cannot be made."""
-    for place, old, new in moves:
-        word = old or new
-        allowed = ("TU", "UT", "RR", "TRTRTR") + (("RTR",) if place == 0 else ())
-        if (old and new) or word not in allowed or not 0 <= place <= len(dance):
-            return None
-        if not dance[place:].startswith(old):
-            return None
-        dance = dance[:place] + new + dance[place + len(old):]
-    return dance
 
 
 class StandardTest(unittest.TestCase):
